@@ -1,0 +1,1 @@
+"""Twicewashed: seams between pieces of cloth that shrink by unknown shares."""
