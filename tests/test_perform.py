@@ -2,7 +2,7 @@
 
 import unittest
 
-from tests.rooms import everything, pair, told
+from tests.helper import everything, pair, told
 from twicewashed.errors import BadLength, NoBolt, NoPiece, NoWash, Stopped, TooOften
 from twicewashed.room import Room
 

@@ -2,7 +2,7 @@
 
 import unittest
 
-from tests.rooms import SIDES, end, everything, pair, told, washings_to_come
+from tests.helper import SIDES, end, everything, pair, told, washings_to_come
 from twicewashed.errors import BadBolt, BadLength, BadShares, NoBolt, NoPiece, NoSide, NoWash, TooOften
 from twicewashed.lengths import Length
 from twicewashed.room import Room

@@ -80,3 +80,15 @@ class Length:
         if len(self.powers) != len(other.powers):
             raise Mismatch("the lengths are written for different numbers of shares")
         return all([mine >= its for mine, its in zip(self.powers, other.powers)])
+
+
+def check_numbers(shares, lengths):
+    """Raises Mismatch if a length is not written for so many shares."""
+    for length in lengths:
+        if len(length.powers) != shares:
+            raise Mismatch("a length is written for another number of shares")
+
+
+def divided(left, right):
+    """The powers of the quotient of two lengths with the same number of shares."""
+    return tuple([mine - its for mine, its in zip(left.powers, right.powers)])

@@ -1,7 +1,7 @@
 """Rows of shares, and how two lengths compare at such a row."""
 
-from twicewashed.errors import BadShares, Mismatch
-from twicewashed.lengths import MOST_SHARES
+from twicewashed.errors import BadShares
+from twicewashed.lengths import MOST_SHARES, check_numbers, divided
 
 MOST_ROOT = 1000
 KEPT_BITS = 256
@@ -19,21 +19,42 @@ def check_row(shares):
             raise BadShares("a share is not greater than 0 and at most 1")
 
 
+def check_weighed(left, right, shares):
+    """Raises what weigh raises for these lengths and this row."""
+    check_row(shares)
+    _, fractions = shares
+    check_numbers(len(fractions), (left, right))
+
+
 def weigh(left, right, shares):
     """-1, 0 or 1 if left is less than, equal to or greater than right at these shares."""
-    check_row(shares)
+    check_weighed(left, right, shares)
+    return compared(left.count, right.count, divided(left, right), shares)
+
+
+def compared(top, bottom, powers, shares):
+    """-1, 0 or 1 if top times these powers of the shares is less than, equal to or greater than bottom."""
     root, fractions = shares
-    if len(left.powers) != len(fractions) or len(right.powers) != len(fractions):
-        raise Mismatch("the lengths and the row do not have the same number of shares")
     above = []
     below = []
-    for mine, its, (top, bottom) in zip(left.powers, right.powers, fractions):
-        above.extend([top] * (mine - its) + [bottom] * (its - mine))
-        below.extend([bottom] * (mine - its) + [top] * (its - mine))
-    # Both lengths are raised to the power of the root, so that no root is left to take.
-    above.append(_power(left.count, root))
-    below.append(_power(right.count, root))
+    for power, (part, whole) in zip(powers, fractions):
+        above.extend([part] * power + [whole] * -power)
+        below.extend([whole] * power + [part] * -power)
+    # Both sides are raised to the power of the root, so that no root is left to take.
+    above.append(raised(top, root))
+    below.append(raised(bottom, root))
     return _compared_products(above, below)
+
+
+def raised(base, exponent):
+    """The base to the power of the exponent, which is at least 0."""
+    result = 1
+    while exponent > 1:
+        if exponent & 1:
+            result = result * base
+        base = base * base
+        exponent = exponent >> 1
+    return result * base if exponent else result
 
 
 def _compared_products(above, below):
@@ -60,16 +81,6 @@ def _bounds(factors):
         most.append(kept + 1 if dropped else kept)
         shift = shift + dropped
     return _multiplied(least) << shift, _multiplied(most) << shift
-
-
-def _power(base, exponent):
-    result = 1
-    while exponent > 0:
-        if exponent & 1:
-            result = result * base
-        base = base * base
-        exponent = exponent >> 1
-    return result
 
 
 def _multiplied(factors):
